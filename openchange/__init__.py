@@ -1,0 +1,1 @@
+"""Openchange: a database whose tables change their shape while it is in use."""

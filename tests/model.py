@@ -1,0 +1,76 @@
+"""The moves of [11] once more, written down independently of the package's own, for comparison."""
+
+from openchange.kinds import kind_of
+
+
+def phases(plan):
+    if not plan.job:
+        return ["none"]
+    if kind_of(plan.kind).parts == 1:
+        return ["before", (0,), (1,), "ended"]
+    return ["before", "ended"] + [(a, b, c) for a in (0, 1) for b in (0, 1) for c in (0, 1)]
+
+
+def beginning(plan, world):
+    return (0, 0, "before" if plan.job else "none", world)
+
+
+def beginnings(plan):
+    return [beginning(plan, world) for world in kind_of(plan.kind).firsts(plan.sets[0])]
+
+
+def all_standings(plan):
+    many = len(plan.sets)
+    return [(low, high, phase, world) for low in range(many) for high in range(low, many)
+            for phase in phases(plan) for world in kind_of(plan.kind).worlds()]
+
+
+def moves(plan, lag, standing):
+    """A dict from the moves to the standings behind them, "off" where the job gives up, and their faults."""
+    low, high, phase, world = standing
+    kind = kind_of(plan.kind)
+    ended = phase == "ended" or not plan.job
+    told = {}
+    if high + 1 < len(plan.sets) and high + 1 <= low + lag and (high != plan.at or ended):
+        told[("tell",)] = ((low, high + 1, phase, world), "")
+    if low != high:
+        told[("leave",)] = ((low + 1, high, phase, world), "")
+    if (low, high, phase) == (plan.at, plan.at, "before"):
+        told[("begin",)] = ((low, high, tuple(0 for _ in range(kind.parts)), world), "")
+    if type(phase) is tuple:
+        for part in range(kind.parts):
+            behind = kind.worked(plan.job, world, part)
+            done = tuple(1 if at == part else mark for at, mark in enumerate(phase))
+            told[("work", part)] = ("off" if behind is None else (low, high, done, behind), "")
+        if sum(phase) == kind.parts:
+            told[("end",)] = ((low, high, "ended", world), "")
+    seen = []
+    for version in range(low, high + 1):
+        if plan.sets[version] not in seen:
+            seen.append(plan.sets[version])
+            for deed, behind, fault in kind.deeds(world, plan.sets[version]):
+                told[("deed", version, deed)] = ((low, high, phase, behind), fault)
+    return told
+
+
+def is_left_over(plan, standing):
+    low, _, phase, world = standing
+    return (low == len(plan.sets) - 1 and phase in ("none", "ended")
+            and world not in kind_of(plan.kind).firsts(plan.sets[-1]))
+
+
+def fewest(plan, lag):
+    """The least number of moves by which a plan goes wrong, None if it is safe; and all standings met."""
+    number = 0
+    level = set(beginnings(plan))
+    met = set(level)
+    while level:
+        if any(is_left_over(plan, standing) for standing in level):
+            return number, met
+        number += 1
+        told = [one for standing in level for one in moves(plan, lag, standing).values()]
+        if any(fault for _, fault in told):
+            return number, met
+        level = {behind for behind, _ in told if behind != "off"} - met
+        met |= level
+    return None, met
