@@ -1,9 +1,6 @@
 """Which plans are safe: judged for all tables, servers and runs at once."""
 
-from openchange.errors import BadMove, TooLarge
-from openchange.standings import Course, explored, is_closed
-
-MOST_STANDINGS = 100000
+from openchange.standings import Course, check_size, explored, goes_wrong, is_closed
 
 
 class Safe:
@@ -40,21 +37,13 @@ class Wrong:
     def shows(self, plan, lag):
         """Whether the moves show that a plan is not safe for a lag."""
         course = Course(plan, lag)
-        if not course.is_first_world(self.world):
-            return False
-        try:
-            standing, fault = course.followed(course.beginning(self.world), self.moves)
-        except BadMove:
-            return False
-        return fault != "" or (standing is not None and course.is_left_over(standing))
+        return course.is_first_world(self.world) and goes_wrong(course, course.beginning(self.world), self.moves)
 
 
 def judge(plan, lag):
     """A Safe if a plan is safe for a lag, otherwise a Wrong with the fewest moves."""
     course = Course(plan, lag)
-    number = course.size()
-    if number > MOST_STANDINGS:
-        raise TooLarge(number)
+    check_size(course)
     table, wrong = explored(course, course.beginnings())
     if wrong is None:
         return Safe(table)

@@ -1,9 +1,11 @@
 """Standings of one row's world among the versions, and the moves between them."""
 
-from openchange.errors import BadMove
+from openchange.errors import BadMove, TooLarge
 from openchange.forms import is_flat, is_integer
 from openchange.kinds import kind_of
 from openchange.plans import check_lag
+
+MOST_STANDINGS = 100000
 
 
 class Course:
@@ -123,6 +125,13 @@ def _phases(job, parts):
     return ("before", *marks, "ended")
 
 
+def check_size(course):
+    """Raises TooLarge if there are too many standings to go through."""
+    number = course.size()
+    if number > MOST_STANDINGS:
+        raise TooLarge(number)
+
+
 def is_closed(course, table, beginnings):
     """Whether a table shows that nothing goes wrong from some beginnings on."""
     if not all([course.is_standing(standing) for standing in table]):
@@ -141,34 +150,64 @@ def _leads_into(moves, lot):
     return all([fault == "" and (behind is None or behind in lot) for _, behind, fault in moves])
 
 
+def goes_wrong(course, standing, moves):
+    """Whether moves can be made from a standing, and something goes wrong by them."""
+    try:
+        behind, fault = course.followed(standing, moves)
+    except BadMove:
+        return False
+    return fault != "" or (behind is not None and course.is_left_over(behind))
+
+
 def explored(course, beginnings):
     """Goes by all moves from some beginnings on, by fewest moves first, until something is wrong.
 
     Returns the list of the standings that were met, and None if nothing is wrong,
     otherwise the pair of a beginning and of the fewest moves by which it goes wrong.
-    At the beginnings themselves nothing is left over.
     """
     came = {standing: None for standing in beginnings}
+    for standing in came:
+        if course.is_left_over(standing):
+            return list(came), (standing, [])
     level = list(came)
     while level:
         further = []
         for standing in level:
             for move, behind, fault in course.moves_from(standing):
-                if fault:
-                    return list(came), _way(came, standing, move)
-                if behind is None or behind in came:
+                if not fault and (behind is None or behind in came):
                     continue
-                if course.is_left_over(behind):
-                    return list(came), _way(came, standing, move)
+                if fault or course.is_left_over(behind):
+                    beginning, moves = way_to(came, standing)
+                    return list(came), (beginning, [*moves, move])
                 came[behind] = (standing, move)
                 further.append(behind)
         level = further
     return list(came), None
 
 
-def _way(came, standing, move):
-    """The beginning, and the moves from it by way of a standing up to a last move."""
-    moves = [move]
+def reached(course):
+    """All standings to which moves lead from the first ones, whatever faults they have.
+
+    Returns a dict from each to None, or to the pair of the standing ahead of it
+    and the move between. No such move has a fault: a deed with a fault leaves its
+    world as it is, and so leads to nothing new.
+    """
+    came = {standing: None for standing in course.beginnings()}
+    level = list(came)
+    while level:
+        further = []
+        for standing in level:
+            for move, behind, _ in course.moves_from(standing):
+                if behind is not None and behind not in came:
+                    came[behind] = (standing, move)
+                    further.append(behind)
+        level = further
+    return came
+
+
+def way_to(came, standing):
+    """The beginning from which a standing was met, and the moves that lead to it."""
+    moves = []
     while came[standing] is not None:
         standing, move = came[standing]
         moves.append(move)

@@ -59,10 +59,13 @@ def is_left_over(plan, standing):
             and world not in kind_of(plan.kind).firsts(plan.sets[-1]))
 
 
-def fewest(plan, lag):
-    """The least number of moves by which a plan goes wrong, None if it is safe; and all standings met."""
+def fewest(plan, lag, started=None):
+    """The least number of moves by which a plan goes wrong, None if it is safe; and all standings met.
+
+    Runs begin at the first standings, or in all worlds that are told as those in which they started.
+    """
     number = 0
-    level = set(beginnings(plan))
+    level = set(beginnings(plan) if started is None else [beginning(plan, world) for world in started])
     met = set(level)
     while level:
         if any(is_left_over(plan, standing) for standing in level):
@@ -74,3 +77,16 @@ def fewest(plan, lag):
         level = {behind for behind, _ in told if behind != "off"} - met
         met |= level
     return None, met
+
+
+def worlds_at(plan, lag, version):
+    """The set of the worlds in which a plan may be given up at a version."""
+    queue = beginnings(plan)
+    met = set(queue)
+    for standing in queue:
+        for behind, _ in moves(plan, lag, standing).values():
+            if behind != "off" and behind not in met:
+                met.add(behind)
+                queue.append(behind)
+    return {world for low, high, phase, world in met
+            if low == high == version and phase in ("none", "before", "ended")}

@@ -72,3 +72,20 @@ def small_plans():
         for many in (1, 2, 3):
             told.extend(plans_of(kind, many, steps[many - 1]))
     return told
+
+
+def plans_between(kind, first, last, most):
+    """All plans of a kind from one set to another with at most so many versions, in the order of [13]."""
+    told = []
+    for many in range(1, most + 1):
+        if many == 1 and first != last:
+            continue
+        for between in product(sets_of(kind), repeat=max(many - 2, 0)):
+            sets = (first,) if many == 1 else (first, *between, last)
+            told.append((many, False, "", 0, sets))
+            told.extend((many, True, job, at, sets) for job in kind_of(kind).jobs for at in range(many))
+    return [Plan(kind, sets, job, at) for _, _, job, at, sets in sorted(told)]
+
+
+def triple_of(plan):
+    return (plan.sets, plan.job, plan.at)

@@ -6,13 +6,41 @@ import inspect
 import unittest
 from pathlib import Path
 
-from openchange import errors, judging, kinds, plans
+from openchange import (changeerrors, database, errors, judging, kinds, plans, returning, shortest, sparing, views)
 
 PACKAGE = Path(errors.__file__).parent
 
-ERRORS = {"ChangeError": None, "BadPlan": ["part"], "BadLag": ["lag"], "BadMove": ["number"],
-          "BadVersion": ["version"], "BadBack": ["version"], "BadLean": ["part"], "BadSpare": ["told"],
-          "TooLarge": ["number"]}
+ERRORS = {
+    errors: {"ChangeError": None, "BadPlan": ["part"], "BadLag": ["lag"], "BadMove": ["number"],
+             "BadVersion": ["version"], "BadBack": ["version"], "BadLean": ["part"], "BadSpare": ["told"],
+             "TooLarge": ["number"]},
+    changeerrors: {"BadRows": ["focus"], "NotNow": ["event"], "BadTerms": ["part"], "BadText": ["line", "column"],
+                   "BadChange": ["element"]}}
+
+FUNCTIONS = (
+    (kinds, "kind_of", ["word"]), (plans, "held", ["plan", "lag"]), (judging, "judge", ["plan", "lag"]),
+    (judging, "moved", ["plan", "lag", "world", "moves"]),
+    (shortest, "shortest", ["kind", "first", "last", "lag", "most"]),
+    (returning, "worlds_at", ["plan", "lag", "version"]), (returning, "judge_back", ["plan", "backs", "lag"]),
+    (returning, "shortest_back", ["plan", "version", "lag", "most"]), (sparing, "spares", ["plan", "lag"]),
+    (sparing, "leanest", ["plan", "lag"]), (sparing, "is_leanest", ["plan", "lag"]),
+    (views, "view", ["plan", "lag", "rows", "element", "events", "focus"]))
+
+PAPER = {"__eq__": ["other"], "__bool__": []}
+ASKED = ["kind", "first", "last", "lag", "most"]
+
+CLASSES = (
+    (plans, "Plan", ["kind", "sets", "job", "at"], {"last": [], "__eq__": ["other"]}),
+    (judging, "Safe", ["table"], {"shows": ["plan", "lag"], **PAPER}),
+    (judging, "Wrong", ["world", "moves"], {"shows": ["plan", "lag"], **PAPER}),
+    (shortest, "Shortest", ["plan", "paper", "against"], {"shows": ASKED, **PAPER}),
+    (shortest, "NoPlan", ["against"], {"shows": ASKED, **PAPER}),
+    (returning, "CanReturn", ["tables"], {"shows": ["plan", "backs", "lag"], **PAPER}),
+    (returning, "CannotReturn", ["version", "world", "there", "back"], {"shows": ["plan", "backs", "lag"], **PAPER}),
+    (sparing, "Spares", ["spare", "needed"], {"shows": ["plan", "lag"], "__eq__": ["other"]}),
+    (database, "Database", ["plan", "lag", "rows", "element"], {
+        "low": [], "can": ["event"], "happen": ["event"], "answers": ["events"], "focuses": [], "world": ["focus"],
+        "is_clean": []}))
 
 
 def parameters(called):
@@ -21,37 +49,32 @@ def parameters(called):
 
 class InterfaceTest(unittest.TestCase):
     def test_functions(self):
-        for module, name, expected in (
-                (kinds, "kind_of", ["word"]), (plans, "held", ["plan", "lag"]), (judging, "judge", ["plan", "lag"]),
-                (judging, "moved", ["plan", "lag", "world", "moves"])):
+        for module, name, expected in FUNCTIONS:
             self.assertEqual(parameters(getattr(module, name)), expected)
             self.assertEqual(getattr(module, name).__module__, module.__name__)
 
     def test_classes(self):
-        for module, name, expected in (
-                (plans, "Plan", ["kind", "sets", "job", "at"]), (judging, "Safe", ["table"]),
-                (judging, "Wrong", ["world", "moves"])):
+        for module, name, expected, _ in CLASSES:
             self.assertEqual(parameters(getattr(module, name)), expected)
             self.assertEqual(getattr(module, name).__module__, module.__name__)
         signature = inspect.signature(plans.Plan)
         self.assertEqual([signature.parameters[name].default for name in ("job", "at")], ["", 0])
+        self.assertIsNone(inspect.signature(database.Database).parameters["element"].default)
 
     def test_methods_stand_in_their_classes(self):
-        for owner, methods in (
-                (plans.Plan, {"last": [], "__eq__": ["other"]}),
-                (judging.Safe, {"shows": ["plan", "lag"], "__eq__": ["other"], "__bool__": []}),
-                (judging.Wrong, {"shows": ["plan", "lag"], "__eq__": ["other"], "__bool__": []}),
-                (type(kinds.kind_of("index")), {
-                    "worlds": [], "deeds": ["world", "duties"], "worked": ["job", "world", "part"],
-                    "firsts": ["duties"]})):
+        told = [(getattr(module, name), methods) for module, name, _, methods in CLASSES]
+        told.append((type(kinds.kind_of("index")), {
+            "worlds": [], "deeds": ["world", "duties"], "worked": ["job", "world", "part"], "firsts": ["duties"]}))
+        for owner, methods in told:
             for name, expected in methods.items():
                 self.assertEqual(parameters(vars(owner)[name])[1:], expected, (owner, name))
 
     def test_errors(self):
-        for name, expected in ERRORS.items():
-            self.assertEqual(getattr(errors, name).__module__, errors.__name__)
-            if expected:
-                self.assertEqual(parameters(getattr(errors, name)), expected)
+        for module, told in ERRORS.items():
+            for name, expected in told.items():
+                self.assertEqual(getattr(module, name).__module__, module.__name__)
+                if expected:
+                    self.assertEqual(parameters(getattr(module, name)), expected)
 
 
 class ReadmeTest(unittest.TestCase):
