@@ -6,7 +6,8 @@ import inspect
 import unittest
 from pathlib import Path
 
-from openchange import (changeerrors, database, errors, judging, kinds, plans, returning, shortest, sparing, views)
+from openchange import (changeerrors, database, errors, judging, kinds, leases, plans, playing, recipes, returning,
+                        schemas, shortest, sparing, views)
 
 PACKAGE = Path(errors.__file__).parent
 
@@ -24,7 +25,11 @@ FUNCTIONS = (
     (returning, "worlds_at", ["plan", "lag", "version"]), (returning, "judge_back", ["plan", "backs", "lag"]),
     (returning, "shortest_back", ["plan", "version", "lag", "most"]), (sparing, "spares", ["plan", "lag"]),
     (sparing, "leanest", ["plan", "lag"]), (sparing, "is_leanest", ["plan", "lag"]),
-    (views, "view", ["plan", "lag", "rows", "element", "events", "focus"]))
+    (views, "view", ["plan", "lag", "rows", "element", "events", "focus"]),
+    (playing, "played", ["plan", "lag", "world", "moves"]), (leases, "judge_terms", ["terms", "lag"]),
+    (leases, "least_wait", ["length", "delay", "drift", "lag"]), (leases, "least_lag", ["terms"]),
+    (recipes, "recipe", ["kind", "word"]), (schemas, "changes", ["old", "new"]),
+    (schemas, "leans_on", ["change", "other"]))
 
 PAPER = {"__eq__": ["other"], "__bool__": []}
 ASKED = ["kind", "first", "last", "lag", "most"]
@@ -40,7 +45,14 @@ CLASSES = (
     (sparing, "Spares", ["spare", "needed"], {"shows": ["plan", "lag"], "__eq__": ["other"]}),
     (database, "Database", ["plan", "lag", "rows", "element"], {
         "low": [], "can": ["event"], "happen": ["event"], "answers": ["events"], "focuses": [], "world": ["focus"],
-        "is_clean": []}))
+        "is_clean": []}),
+    (leases, "Terms", ["length", "delay", "wait", "drift"], {"__eq__": ["other"]}),
+    (leases, "Enough", ["margin"], {"shows": ["terms", "lag"], **PAPER}),
+    (leases, "TooShort", ["tells", "made", "came", "used"], {"shows": ["terms", "lag"], **PAPER}),
+    (schemas, "Schema", ["tables"], {"marked": [], "__eq__": ["other"]}))
+
+# What the files may import beside the package's own.
+LIBRARY = {"math": ["gcd"]}
 
 
 def parameters(called):
@@ -109,7 +121,9 @@ class FormTest(unittest.TestCase):
         for path, tree in self.trees():
             for node in ast.walk(tree):
                 self.assertNotIsInstance(node, ast.Import, path)
-                if isinstance(node, ast.ImportFrom):
+                if isinstance(node, ast.ImportFrom) and node.module in LIBRARY:
+                    self.assertLessEqual({alias.name for alias in node.names}, set(LIBRARY[node.module]), path)
+                elif isinstance(node, ast.ImportFrom):
                     self.assertTrue(node.module.startswith("openchange."), path)
                     source = ast.parse((PACKAGE / (node.module.split(".")[1] + ".py")).read_text())
                     defined = [made.name for made in source.body if isinstance(made, (ast.FunctionDef, ast.ClassDef))]
