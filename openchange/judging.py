@@ -1,6 +1,7 @@
 """Which plans are safe: judged for all tables, servers and runs at once."""
 
-from openchange.standings import Course, check_size, explored, goes_wrong, is_closed
+from openchange.courses import Course, check_size
+from openchange.standings import explored, goes_wrong, is_closed
 
 
 class Safe:

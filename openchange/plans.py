@@ -15,12 +15,7 @@ class Plan:
         if kind not in KINDS:
             raise BadPlan("kind")
         element = kind_of(kind)
-        if not _are_sets(sets, element.duties):
-            raise BadPlan("sets")
-        if job != "" and job not in element.jobs:
-            raise BadPlan("job")
-        if not _is_place(at, len(sets) if job else 1):
-            raise BadPlan("at")
+        check_parts(element, sets, job, at)
         if not element.firsts(sets[0]):
             raise BadPlan("first")
         self.kind = kind
@@ -35,6 +30,24 @@ class Plan:
     def last(self):
         """The number of the last version."""
         return len(self.sets) - 1
+
+    def kept_up(self):
+        """The kind of what is kept up."""
+        return kind_of(self.kind)
+
+    def like(self, sets, job, at):
+        """A plan of the same kind."""
+        return Plan(self.kind, sets, job, at)
+
+
+def check_parts(element, sets, job, at):
+    """Raises BadPlan for the first part that no plan of a kind can have."""
+    if not _are_sets(sets, element.duties):
+        raise BadPlan("sets")
+    if job != "" and job not in element.jobs:
+        raise BadPlan("job")
+    if not _is_place(at, len(sets) if job else 1):
+        raise BadPlan("at")
 
 
 def _are_sets(sets, duties):
@@ -69,4 +82,4 @@ def held(plan, lag):
         raise TooLarge(number)
     sets = [duties for duties, many in zip(plan.sets, copies) for _ in range(many)]
     at = sum(copies[:plan.at + 1]) - 1 if plan.job else 0
-    return Plan(plan.kind, sets, plan.job, at)
+    return plan.like(sets, plan.job, at)

@@ -1,11 +1,11 @@
 """Ways back from a plan that is given up on the way."""
 
+from openchange.courses import Course, check_size
 from openchange.errors import BadBack, BadMove, BadPlan, BadVersion
 from openchange.forms import is_integer
-from openchange.kinds import kind_of
 from openchange.plans import Plan
-from openchange.shortest import all_triples, check_many_plans, check_most
-from openchange.standings import Course, check_size, explored, goes_wrong, is_closed, reached, way_to
+from openchange.searching import all_triples, check_many_plans, check_most
+from openchange.standings import explored, goes_wrong, is_closed, reached, way_to
 
 
 class CanReturn:
@@ -90,12 +90,13 @@ def shortest_back(plan, version, lag, most):
     course = _course_at(plan, lag, version)
     check_most(most)
     first, last = plan.sets[version], plan.sets[0]
-    check_many_plans(plan.kind, first, last, most)
-    if not kind_of(plan.kind).firsts(first):
+    element = plan.kept_up()
+    check_many_plans(element, first, last, most)
+    if not element.firsts(first):
         raise BadPlan("first")
     came = reached(course)
-    for sets, job, at in all_triples(plan.kind, first, last, most):
-        back = Plan(plan.kind, sets, job, at)
+    for sets, job, at in all_triples(element, first, last, most):
+        back = plan.like(sets, job, at)
         way = Course(back, lag)
         _, wrong = explored(way, _beginnings(way, came, version))
         if wrong is None:

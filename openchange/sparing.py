@@ -3,7 +3,6 @@
 from openchange.errors import BadSpare
 from openchange.forms import is_flat
 from openchange.judging import Safe, Wrong, judge
-from openchange.plans import Plan
 
 
 class Spares:
@@ -52,7 +51,7 @@ def without(plan, pair):
     version, spared = pair
     sets = list(plan.sets)
     sets[version] = tuple([duty for duty in sets[version] if duty != spared])
-    return Plan(plan.kind, sets, plan.job, plan.at)
+    return plan.like(sets, plan.job, plan.at)
 
 
 def spares(plan, lag):

@@ -1,37 +1,40 @@
-"""Standings of one row's world among the versions, and the moves between them."""
+"""Standings of one row's world among the versions, the moves between them, and how to go through them."""
 
-from openchange.errors import BadMove, TooLarge
+from openchange.errors import BadMove
 from openchange.forms import is_flat, is_integer
-from openchange.kinds import kind_of
 from openchange.plans import check_lag
 
-MOST_STANDINGS = 100000
 
+class Standings:
+    """The standings that versions, phases and worlds make, and the moves between them.
 
-class Course:
-    """A plan and a lag, with the standings and moves that they have."""
+    The kind has worlds(), deeds(world, duties) and firsts(duties); the duties of each
+    version stand in sets; the phase at the beginning is the first one. A class of such
+    standings has these methods besides:
 
-    def __init__(self, plan, lag):
+    - waits(version, phase): whether the version that follows is not told, as a job must end ahead of it;
+    - is_through(phase): whether all jobs have ended, or there are none;
+    - job_moves(standing): what moves_from tells, of the jobs' moves alone.
+    """
+
+    def __init__(self, kind, sets, phases, lag):
         check_lag(lag)
-        self.plan = plan
+        self.kind = kind
+        self.sets = sets
+        self.phases = phases
         self.lag = lag
-        self.kind = kind_of(plan.kind)
-        self.phases = _phases(plan.job, self.kind.parts)
-        self.known_worlds = {world: True for world in self.kind.worlds()}
+        self.last = len(sets) - 1
+        self.known_worlds = {world: True for world in kind.worlds()}
         self.known_deeds = {}
-        self.first_worlds = self.kind.firsts(plan.sets[0])
-        self.last_worlds = self.kind.firsts(plan.sets[-1])
-
-    def size(self):
-        """The number by which a question about the plan is measured."""
-        return len(self.known_worlds) * len(self.phases) * len(self.plan.sets) * (self.lag + 1)
+        self.first_worlds = kind.firsts(sets[0])
+        self.last_worlds = kind.firsts(sets[-1])
 
     def is_standing(self, value):
         """Whether a value is a standing, be there a run that comes to it or not."""
         if not isinstance(value, tuple) or len(value) != 4:
             return False
         low, high, phase, world = value
-        if not is_integer(low) or not is_integer(high) or not 0 <= low <= high <= self.plan.last():
+        if not is_integer(low) or not is_integer(high) or not 0 <= low <= high <= self.last:
             return False
         return is_flat(phase) and phase in self.phases and is_flat(world) and world in self.known_worlds
 
@@ -49,44 +52,25 @@ class Course:
 
     def is_left_over(self, standing):
         """Whether all is through at a standing, and something is left over."""
-        low, high, phase, world = standing
-        return low == self.plan.last() and phase in ("none", "ended") and world not in self.last_worlds
+        low, _, phase, world = standing
+        return low == self.last and self.is_through(phase) and world not in self.last_worlds
 
     def moves_from(self, standing):
         """The triples of a move, the standing behind it (None if the job gives up), and a fault."""
-        return self._version_moves(standing) + self._job_moves(standing) + self._deed_moves(standing)
+        return self._version_moves(standing) + self.job_moves(standing) + self._deed_moves(standing)
 
     def _version_moves(self, standing):
         low, high, phase, world = standing
         told = []
-        waits = high == self.plan.at and phase not in ("none", "ended")
-        if high < self.plan.last() and high < low + self.lag and not waits:
+        if high < self.last and high < low + self.lag and not self.waits(high, phase):
             told.append((("tell",), (low, high + 1, phase, world), ""))
         if low < high:
             told.append((("leave",), (low + 1, high, phase, world), ""))
         return told
 
-    def _job_moves(self, standing):
-        low, high, phase, world = standing
-        if phase == "before" and low == high == self.plan.at:
-            return [(("begin",), (low, high, (0,) * self.kind.parts, world), "")]
-        if not isinstance(phase, tuple):
-            return []
-        told = [(("work", part), self._standing_worked(standing, part), "") for part in range(self.kind.parts)]
-        if 0 not in phase:
-            told.append((("end",), (low, high, "ended", world), ""))
-        return told
-
-    def _standing_worked(self, standing, part):
-        low, high, phase, world = standing
-        behind = self.kind.worked(self.plan.job, world, part)
-        if behind is None:
-            return None
-        return (low, high, phase[:part] + (1,) + phase[part + 1:], behind)
-
     def _deed_moves(self, standing):
         low, high, phase, world = standing
-        sets = self.plan.sets
+        sets = self.sets
         return [(("deed", version, deed), (low, high, phase, behind), fault)
                 for version in range(low, high + 1) if sets[version] not in sets[low:version]
                 for deed, behind, fault in self._deeds(world, sets[version])]
@@ -113,23 +97,6 @@ class Course:
                 if told == move:
                     return (behind, fault)
         raise BadMove(number)
-
-
-def _phases(job, parts):
-    """The phases of a job, the one at the beginning first."""
-    if job == "":
-        return ("none",)
-    marks = [()]
-    for _ in range(parts):
-        marks = [(*ahead, mark) for ahead in marks for mark in (0, 1)]
-    return ("before", *marks, "ended")
-
-
-def check_size(course):
-    """Raises TooLarge if there are too many standings to go through."""
-    number = course.size()
-    if number > MOST_STANDINGS:
-        raise TooLarge(number)
 
 
 def is_closed(course, table, beginnings):

@@ -3,7 +3,7 @@
 import unittest
 from unittest import mock
 
-from openchange import shortest as shortest_module
+from openchange import searching
 from openchange.errors import BadBack, BadLag, BadPlan, BadVersion, TooLarge
 from openchange.judging import moved
 from openchange.kinds import kind_of
@@ -414,7 +414,7 @@ class ShortestBackTest(unittest.TestCase):
 
     def test_just_at_the_bound(self):
         for number, is_too_large in ((33, False), (32, True)):
-            with mock.patch.object(shortest_module, "MOST_PLANS", number):
+            with mock.patch.object(searching, "MOST_PLANS", number):
                 if is_too_large:
                     self.bad(TooLarge, {"number": 33}, COLUMN_ADD, 2, 1, 3)
                 else:

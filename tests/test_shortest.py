@@ -3,7 +3,7 @@
 import unittest
 from unittest import mock
 
-from openchange import shortest as module
+from openchange import searching
 from openchange.errors import BadLag, BadPlan, TooLarge
 from openchange.judging import Safe, Wrong, judge
 from openchange.kinds import kind_of
@@ -146,7 +146,7 @@ class RefusedTest(unittest.TestCase):
 
     def test_just_at_the_bound(self):
         for number, is_too_large in ((117, False), (116, True)):
-            with mock.patch.object(module, "MOST_PLANS", number):
+            with mock.patch.object(searching, "MOST_PLANS", number):
                 if is_too_large:
                     self.bad(TooLarge, {"number": 117}, "unique", (), KEPT, 1, 3)
                 else:
@@ -155,7 +155,7 @@ class RefusedTest(unittest.TestCase):
     def test_the_greatest_most(self):
         # The least numbers of plans with as many versions are above the bound.
         self.bad(TooLarge, {"number": 19 * 4 ** 7 + 17 * 4 ** 6 + 15 * 4 ** 5 + 4212}, "column", (), (), 1, 9)
-        with mock.patch.object(module, "MOST_PLANS", 10 ** 6):
+        with mock.patch.object(searching, "MOST_PLANS", 10 ** 6):
             told = shortest("column", (), (), 1, 9)
             self.assertEqual((told.plan.sets, told.against), (((),), {}))
             self.assertIs(told.shows("column", (), (), 1, 9), True)
