@@ -23,7 +23,7 @@ class Standings:
         self.sets = sets
         self.phases = phases
         self.lag = lag
-        self.last = len(sets) - 1
+        self.last_version = len(sets) - 1
         self.known_worlds = {world: True for world in kind.worlds()}
         self.known_deeds = {}
         self.first_worlds = kind.firsts(sets[0])
@@ -34,7 +34,7 @@ class Standings:
         if not isinstance(value, tuple) or len(value) != 4:
             return False
         low, high, phase, world = value
-        if not is_integer(low) or not is_integer(high) or not 0 <= low <= high <= self.last:
+        if not is_integer(low) or not is_integer(high) or not 0 <= low <= high <= self.last_version:
             return False
         return is_flat(phase) and phase in self.phases and is_flat(world) and world in self.known_worlds
 
@@ -53,7 +53,7 @@ class Standings:
     def is_left_over(self, standing):
         """Whether all is through at a standing, and something is left over."""
         low, _, phase, world = standing
-        return low == self.last and self.is_through(phase) and world not in self.last_worlds
+        return low == self.last_version and self.is_through(phase) and world not in self.last_worlds
 
     def moves_from(self, standing):
         """The triples of a move, the standing behind it (None if the job gives up), and a fault."""
@@ -62,7 +62,7 @@ class Standings:
     def _version_moves(self, standing):
         low, high, phase, world = standing
         told = []
-        if high < self.last and high < low + self.lag and not self.waits(high, phase):
+        if high < self.last_version and high < low + self.lag and not self.waits(high, phase):
             told.append((("tell",), (low, high + 1, phase, world), ""))
         if low < high:
             told.append((("leave",), (low + 1, high, phase, world), ""))

@@ -6,8 +6,8 @@ import inspect
 import unittest
 from pathlib import Path
 
-from openchange import (changeerrors, database, errors, judging, kinds, leases, plans, playing, recipes, returning,
-                        schemas, shortest, sparing, views)
+from openchange import (changeerrors, database, errors, judging, kinds, leaning, leases, parted, plans, playing,
+                        recipes, returning, schemas, schematexts, shortest, sparing, views, weaving)
 
 PACKAGE = Path(errors.__file__).parent
 
@@ -29,7 +29,11 @@ FUNCTIONS = (
     (playing, "played", ["plan", "lag", "world", "moves"]), (leases, "judge_terms", ["terms", "lag"]),
     (leases, "least_wait", ["length", "delay", "drift", "lag"]), (leases, "least_lag", ["terms"]),
     (recipes, "recipe", ["kind", "word"]), (schemas, "changes", ["old", "new"]),
-    (schemas, "leans_on", ["change", "other"]))
+    (schemas, "leans_on", ["change", "other"]), (schematexts, "read_schema", ["text"]),
+    (schematexts, "write_schema", ["schema"]), (weaving, "woven", ["old", "new"]), (weaving, "write_woven", ["told"]),
+    (parted, "judge_orders", ["sets", "job", "at", "lag"]),
+    (parted, "shortest_parted", ["first", "last", "lag", "most", "orders"]),
+    (leaning, "judge_lean", ["leaning", "lag"]), (leaning, "least_offset", ["column", "index", "lag"]))
 
 PAPER = {"__eq__": ["other"], "__bool__": []}
 ASKED = ["kind", "first", "last", "lag", "most"]
@@ -49,7 +53,17 @@ CLASSES = (
     (leases, "Terms", ["length", "delay", "wait", "drift"], {"__eq__": ["other"]}),
     (leases, "Enough", ["margin"], {"shows": ["terms", "lag"], **PAPER}),
     (leases, "TooShort", ["tells", "made", "came", "used"], {"shows": ["terms", "lag"], **PAPER}),
-    (schemas, "Schema", ["tables"], {"marked": [], "__eq__": ["other"]}))
+    (schemas, "Schema", ["tables"], {"marked": [], "__eq__": ["other"]}),
+    (weaving, "Woven", ["length", "starts", "chain"], {
+        "shows": ["old", "new"], "plan": ["change"], "duties_at": ["version"], "__eq__": ["other"]}),
+    (parted, "PartedPlan", ["sets", "job", "at", "orders"], {"firsts": [], "last": [], "__eq__": ["other"]}),
+    (parted, "OrdersTold", ["papers"], {"safe": [], "shows": ["sets", "job", "at", "lag"], "__eq__": ["other"]}),
+    (parted, "ShortestParted", ["plan", "paper", "against"], {
+        "shows": ["first", "last", "lag", "most", "orders"], **PAPER}),
+    (leaning, "Leaning", ["column", "index", "offset"], {"last": [], "sets_at": ["version"]}),
+    (leaning, "LeanSafe", ["table"], {"shows": ["leaning", "lag"], **PAPER}),
+    (leaning, "LeanWrong", ["world", "moves"], {"shows": ["leaning", "lag"], **PAPER}),
+    (leaning, "LeastOffset", ["offset", "paper", "against"], {"shows": ["column", "index", "lag"], **PAPER}))
 
 # What the files may import beside the package's own.
 LIBRARY = {"math": ["gcd"]}
