@@ -1,7 +1,7 @@
 """Tables with a unique value, with a reference, or with an old and a new place; and the choice of a store."""
 
 from openchange.changeerrors import BadRows
-from openchange.forms import is_number, is_number_dict, is_pair, is_row_of_keys, is_word_and_numbers
+from openchange.forms import is_number_dict, is_pair, is_row_of_keys, is_word_and_numbers
 from openchange.stores import (DONE, INDEX_DEEDS, NOTHING, KeyStore, column_store, index_store, keeps_up, least_above,
                                row_word)
 from openchange.uniques import KEYS

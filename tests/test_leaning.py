@@ -90,6 +90,13 @@ class LeaningTest(unittest.TestCase):
             met[len(firsts)] = met.get(len(firsts), 0) + 1
         self.assertEqual(sorted(met), [0, 2, 3, 4, 6, 8])
 
+    def test_deeds(self):
+        for kind, column, index in product(("column", "whole"), sets_of("column"), sets_of("index")):
+            for world in LeanKind(kind).worlds():
+                told = LeanKind(kind).deeds(world, (column, index))
+                expected = leanmodel.deeds(kind, world, (column, index))
+                self.assertEqual(sorted(told), sorted((deed, *expected[deed]) for deed in expected))
+
     def test_no_first_worlds(self):
         # Plans that have first worlds have some together, too, so one of them is changed by hand.
         for column, index in product(COLUMNS, INDEXES):
@@ -442,8 +449,15 @@ class OffsetTest(unittest.TestCase):
         if other:
             self.bent(asked, told, {"offset": 2, "paper": other}, {"offset": 2, "paper": other, "against": {
                 **told.against, 1: told.against[0]}})
+        self.bent(asked, told, {"offset": late[0].last() + 1})
         self.assertIs(told.shows(late[0], INDEX_REMOVE, 1), False)
         self.assertIs(told.shows(COLUMN_ADD, index, 1), False)
+
+    def test_the_greatest_offset(self):
+        asked = (Plan("column", [FULL]), INDEX_ADD, 1)
+        told = least_offset(*asked)
+        self.assertEqual((told.offset, told.against), (0, {}))
+        self.bent(asked, told, {"offset": -1}, {"offset": 1}, {"offset": False})
 
     def test_without_a_safe_offset(self):
         column = Plan("column", [(), ("put",), FULL])

@@ -220,6 +220,7 @@ class PapersTest(unittest.TestCase):
         # Made at the moment of the second telling, or ahead of the first one.
         self.expect(False, tells, (11, 1), (13, 1), (22, 1))
         self.expect(False, ((1, 1), (12, 1), (23, 1)), (1, 2), (1, 1), (10, 1), Terms(1000, 2, 11, (0, 1)))
+        self.expect(False, ((1, 1), (12, 1), (23, 1)), (1, 2), (1, 1), (30, 1), Terms(1000, 2, 11, (0, 1)))
         # Come ahead of its making, or too late.
         self.expect(False, tells, (21, 2), (10, 1), (39, 2))
         self.expect(False, tells, (21, 2), (10, 1), (22, 1), Terms(1000, 2, 11, (0, 1)))
@@ -260,6 +261,9 @@ class PapersTest(unittest.TestCase):
                 self.assertIs(TooShort(tells, *times).shows(terms, 1), False)
         self.assertIs(TooShort(((0, 2), *tells[1:]), made, came, used).shows(terms, 1), False)
         self.assertIs(TooShort(((False, 1), *tells[1:]), made, came, used).shows(terms, 1), False)
+        self.assertIs(TooShort(((0, -1), *tells[1:]), made, came, used).shows(terms, 1), False)
+        self.assertIs(TooShort((*tells, (1, 0)), made, came, used).shows(terms, 1), False)
+        self.assertIs(TooShort((*tells, (100, 1)), made, came, used).shows(terms, 1), True)
         self.assertIs(TooShort((), made, came, used).shows(terms, 1), False)
 
 

@@ -72,6 +72,7 @@ class PlanTest(unittest.TestCase):
         self.assertEqual(len(plan_of([("put",)]).firsts()), 6)
         self.assertEqual(sorted(plan_of([LOOKED]).firsts()), [("none", 0), ("none", 1), ("other", 0), ("other", 1),
                                                              ("this", 1)])
+        self.assertEqual(len(plan_of(COMING).firsts()), 3)
         plan = plan_of([LOOKED])
         plan.firsts().clear()
         self.assertEqual(len(plan.firsts()), 5)

@@ -219,6 +219,8 @@ class PlansTest(unittest.TestCase):
         self.assertEqual(told.plan(DROP_REFERENCE), Plan("reference", [whole, ("check", "guard"), (), (), (), ()]))
         self.assertEqual(told.plan(DROP_BOSS), Plan("column", [("put", "read")] * 4 + [("put",), ()], "strip", 5))
         self.assertEqual(told.plan(ADD_UNIQUE).at, 4)
+        told = Woven(6, {DROP_REFERENCE: 2}, ())
+        self.assertEqual(told.plan(DROP_REFERENCE), Plan("reference", [whole] * 3 + [("check", "guard"), (), ()]))
 
     def test_all_are_safe(self):
         for old, new in pairs(4, 25) + [(OLD, NEW), (NEW, OLD), (THERE, HERE)]:
